@@ -1,0 +1,1 @@
+"""Fractions told as sums of unlike shares."""
